@@ -1,0 +1,1 @@
+"""Answergate: a proxy that says "unknown" only if nobody could know."""

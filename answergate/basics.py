@@ -1,0 +1,26 @@
+"""Kinds of values that several parts of the program share."""
+
+NUMBER_MOST = 1_000_000_000
+
+
+def is_integer(thing):
+    # A bool is an int for Python, but not an integer of the document.
+    return isinstance(thing, int) and not isinstance(thing, bool)
+
+
+def is_number(thing):
+    return is_integer(thing) and 0 <= thing <= NUMBER_MOST
+
+
+def is_plain(string):
+    """Whether each character of a string is one from the blank to the tilde."""
+    # Exactly these of the ASCII characters count as printable.
+    return string.isascii() and string.isprintable()
+
+
+def is_decimal(string, most):
+    """Whether a string is an integer from 0 to most in decimal digits without leading zeros."""
+    # isdigit alone would also take digits of other scripts, and int fails on very long strings.
+    if not string.isascii() or not string.isdigit() or len(string) > len(str(most)):
+        return False
+    return str(int(string)) == string and int(string) <= most
