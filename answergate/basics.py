@@ -1,6 +1,7 @@
 """Kinds of values that several parts of the program share."""
 
 NUMBER_MOST = 1_000_000_000
+WORD_MOST = 10
 
 
 def is_integer(thing):
@@ -24,3 +25,17 @@ def is_decimal(string, most):
     if not string.isascii() or not string.isdigit() or len(string) > len(str(most)):
         return False
     return str(int(string)) == string and int(string) <= most
+
+
+def is_word(thing):
+    if not isinstance(thing, str) or not 1 <= len(thing) <= WORD_MOST:
+        return False
+    # Of the ASCII characters, these are the ones from a to z.
+    return thing.isascii() and thing.isalpha() and thing.islower()
+
+
+def are_counted(thing, most):
+    """Whether any value is an ascending tuple of integers from 1 to most."""
+    if not isinstance(thing, tuple) or not all([is_integer(number) and 1 <= number <= most for number in thing]):
+        return False
+    return list(thing) == sorted(set(thing))
