@@ -5,7 +5,8 @@ from answergate.errors import BadDirection, BadLabel, BadLink, BadName, BadNumbe
 from answergate.frames import TEXT_MOST, frame, next_frame
 from answergate.messages import message_text, side
 
-TAIL_MOST = TEXT_MOST + len("200:,")
+# The longest frame: a text of 200 characters with "200:" in front and a comma behind.
+TAIL_MOST = 205
 
 
 def is_tail(string):

@@ -26,6 +26,49 @@ def names_bound(tree):
             yield node.asname or node.name
 
 
+def is_plain_value(node, functions):
+    """Whether an expression at module level is a plain value: nothing in it is worked out."""
+    if isinstance(node, (ast.Tuple, ast.List)):
+        return all(is_plain_value(part, functions) for part in node.elts)
+    if isinstance(node, ast.Dict):
+        return all(part is not None and is_plain_value(part, functions) for part in node.keys + node.values)
+    if isinstance(node, ast.UnaryOp) and isinstance(node.op, ast.USub):
+        return isinstance(node.operand, ast.Constant) and type(node.operand.value) is int
+    if isinstance(node, ast.Name):
+        return node.id in functions
+    return isinstance(node, ast.Constant) and type(node.value) in (int, str, bytes, bool, type(None))
+
+
+def bad_rows(tree):
+    """The lines of statements at module level that rule L3 does not allow."""
+    functions, names = set(), set()
+    for at, node in enumerate(tree.body):
+        if isinstance(node, ast.FunctionDef):
+            functions.add(node.name)
+        elif isinstance(node, ast.Assign) and len(node.targets) == 1 and isinstance(node.targets[0], ast.Name):
+            name = node.targets[0].id
+            if name in names or not is_plain_value(node.value, functions):
+                yield node.lineno
+            names.add(name)
+        elif isinstance(node, ast.Expr) and at == 0 and isinstance(node.value, ast.Constant) and type(node.value.value) is str:
+            continue
+        elif not isinstance(node, (ast.ImportFrom, ast.ClassDef)):
+            yield node.lineno
+
+
+ALLOWED = (ast.Module, ast.FunctionDef, ast.ClassDef, ast.ImportFrom, ast.Assign, ast.AugAssign, ast.If, ast.While, ast.For,
+           ast.Return, ast.Break, ast.Continue, ast.Pass, ast.Raise, ast.Delete, ast.Try, ast.ExceptHandler, ast.Expr,
+           ast.BoolOp, ast.BinOp, ast.UnaryOp, ast.IfExp, ast.Dict, ast.ListComp, ast.DictComp, ast.SetComp, ast.Compare,
+           ast.Call, ast.JoinedStr, ast.FormattedValue, ast.Constant, ast.Attribute, ast.Subscript, ast.Starred, ast.Name,
+           ast.List, ast.Tuple, ast.Set, ast.Slice, ast.Lambda, ast.alias, ast.arg, ast.arguments, ast.comprehension, ast.keyword,
+           ast.expr_context, ast.boolop, ast.operator, ast.unaryop, ast.cmpop)
+CALLED = """len range enumerate zip min max sum abs sorted reversed int str bool list tuple dict set isinstance ord repr any all
+divmod""".split()
+METHODS = """append clear copy count endswith extend find get index insert isalnum isalpha isdigit islower isspace isupper items join
+keys ljust lower lstrip partition pop remove replace reverse rfind rjust rpartition rsplit rstrip setdefault split splitlines
+startswith strip update upper values zfill isascii isprintable add discard""".split()
+
+
 class Language(unittest.TestCase):
 
     def setUp(self):
@@ -54,6 +97,48 @@ class Language(unittest.TestCase):
                             self.assertIn(alias.name, bound, path)
                     else:
                         self.assertIn(node.module, LIBRARY, path)
+
+    def test_l3_module_level(self):
+        for path, tree in self.trees.items():
+            self.assertEqual(list(bad_rows(tree)), [], path)
+
+    def test_l3_finds_bad_rows(self):
+        for row in ('A = len("a")', "A = 1 + 2", "A = (1, len(B))", "A = {1: 2 * 3}", "A, B = 1, 2", "A = B = 1", "A = B",
+                    "A = [k for k in B]", "print(1)", "if A:\n    B = 1", "A += 1", "A: int = 1", "A = f'{B}'", "A = 1.5",
+                    "A = (f,)\ndef f():\n    pass", "A = 1\nA = 2", "for k in A:\n    pass", "A = not B", "A = -B", "A = B[0]"):
+            self.assertNotEqual(list(bad_rows(ast.parse(row))), [], row)
+        for row in ("A = 1", "A = -1", 'A = ("a", None, True, b"c", ())', "A = {1: [2], 'b': (3,)}", '"""A."""', "from a import b",
+                    "def f():\n    pass\nA = {1: f}", "class A:\n    pass"):
+            self.assertEqual(list(bad_rows(ast.parse(row))), [], row)
+
+    def test_l6_l7_l8_l25_forms(self):
+        defined = {node.name for tree in self.trees.values() for node in ast.walk(tree)
+                   if isinstance(node, (ast.FunctionDef, ast.ClassDef))}
+        for path, tree in self.trees.items():
+            bound = set(names_bound(tree))
+            for node in ast.walk(tree):
+                self.assertIsInstance(node, ALLOWED, (path, getattr(node, "lineno", 0)))
+                if isinstance(node, ast.Call) and isinstance(node.func, ast.Name):
+                    self.assertIn(node.func.id, set(CALLED) | bound, (path, node.lineno))
+                if isinstance(node, ast.Call) and isinstance(node.func, ast.Attribute):
+                    self.assertIn(node.func.attr, set(METHODS) | defined, (path, node.lineno))
+                if isinstance(node, ast.Constant):
+                    self.assertNotIn(type(node.value), (float, complex), (path, node.lineno))
+                self.assertNotIsInstance(node, (ast.Div, ast.MatMult), path)
+
+    def test_l20_is(self):
+        for path, tree in self.trees.items():
+            for node in ast.walk(tree):
+                if isinstance(node, ast.Compare) and isinstance(node.ops[0], (ast.Is, ast.IsNot)):
+                    side = node.comparators[0]
+                    self.assertTrue(isinstance(side, ast.Constant) and side.value in (None, True, False), (path, node.lineno))
+
+    def test_l24_sets(self):
+        for path, tree in self.trees.items():
+            for node in ast.walk(tree):
+                if isinstance(node, (ast.For, ast.comprehension)):
+                    self.assertNotIsInstance(node.iter, (ast.Set, ast.SetComp), path)
+                    self.assertFalse(ast.unparse(node.iter).startswith("set("), path)
 
     def test_l10_sizes(self):
         for path, source in self.sources.items():
