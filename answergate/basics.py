@@ -9,8 +9,13 @@ def is_integer(thing):
     return isinstance(thing, int) and not isinstance(thing, bool)
 
 
+def is_between(thing, least, most):
+    """Whether any value is an integer from least to most."""
+    return is_integer(thing) and least <= thing <= most
+
+
 def is_number(thing):
-    return is_integer(thing) and 0 <= thing <= NUMBER_MOST
+    return is_between(thing, 0, NUMBER_MOST)
 
 
 def is_plain(string):
@@ -36,6 +41,6 @@ def is_word(thing):
 
 def are_counted(thing, most):
     """Whether any value is an ascending tuple of integers from 1 to most."""
-    if not isinstance(thing, tuple) or not all([is_integer(number) and 1 <= number <= most for number in thing]):
+    if not isinstance(thing, tuple) or not all([is_between(number, 1, most) for number in thing]):
         return False
     return list(thing) == sorted(set(thing))
