@@ -44,3 +44,8 @@ def are_counted(thing, most):
     if not isinstance(thing, tuple) or not all([is_between(number, 1, most) for number in thing]):
         return False
     return list(thing) == sorted(set(thing))
+
+
+def is_tagged(thing):
+    """Whether any value is a tuple whose first item is a string."""
+    return isinstance(thing, tuple) and thing != () and isinstance(thing[0], str)

@@ -1,7 +1,7 @@
 """Events of the proxy: which can happen to it, and what they do."""
 
-from answergate.basics import is_integer, is_number, is_word
-from answergate.errors import BadBody, BadBool, BadLabel, BadName, BadNumber, BadPiece, BadWord, Known
+from answergate.basics import is_integer, is_number, is_tagged, is_word
+from answergate.errors import BadBody, BadBool, BadLabel, BadName, BadNumber, BadPiece, BadWord, GateError, Known
 from answergate.gates import Errand, Gate, boot_of
 from answergate.messages import is_body
 from answergate.settling import settle
@@ -129,7 +129,10 @@ def restart(gate):
             gate.drop(post)
 
 
-# For each kind of event: what raises the errors for its items, and what it does.
+# For each kind of event: how many items it has, what raises the errors for them, and what it does.
+COUNTS = {
+    "request": 5, "tick": 0, "refused": 1, "received": 2, "lost": 1, "gone": 1, "draining": 2, "stop": 0, "restart": 0,
+}
 CHECKS = {
     "request": check_request, "tick": check_nothing, "refused": check_refused, "received": check_received,
     "lost": check_link, "gone": check_client, "draining": check_draining, "stop": check_nothing,
@@ -146,6 +149,17 @@ def check_event(proxy, event):
     word, *items = event
     check = CHECKS[word]
     check(proxy, *items)
+
+
+def can_happen(proxy, thing):
+    """Whether any value is an event that can happen to this proxy."""
+    if not is_tagged(thing) or COUNTS.get(thing[0]) != len(thing) - 1:
+        return False
+    try:
+        check_event(proxy, thing)
+    except GateError:
+        return False
+    return True
 
 
 def gate_after(proxy, event):

@@ -126,8 +126,7 @@ def least_busy(pool, lot, busy):
 def by_key(pool, lot, key):
     """The position of the lot whose label has the greatest score with the key."""
     check_lot(pool, lot)
-    if not is_word(key):
-        raise BadWord(key)
+    # A key that is no word makes score raise the error for it: there is at least one label.
     scores = [score(key, pool[at][0]) for at in lot]
     return lot[scores.index(max(scores))]
 

@@ -59,6 +59,17 @@ class PlainHouse:
     def __init__(self, name="ann"):
         self.name, self.boot, self.up, self.leaving, self.rows = name, 1, True, False, {}
 
+    @classmethod
+    def of(cls, house):
+        """The same house as this tuple."""
+        name, boot, up, leaving, rows = house
+        model = cls(name)
+        model.boot, model.up, model.leaving = boot, up, leaving
+        for label, rest, came, begun, done, state in rows:
+            model.rows[label] = row = PlainRow(state)
+            row.rest, row.came, row.begun, row.done = rest, list(came), begun, set(done)
+        return model
+
     def value(self):
         rows = tuple((label, row.rest, tuple(row.came), row.begun, tuple(sorted(row.done)), row.state)
                      for label, row in sorted(self.rows.items()))

@@ -101,7 +101,7 @@ class PlainProxy:
         self.link = {name: None for name in self.names}
         self.looking = {name: False for name in self.names}
         self.draining = {name: False for name in self.names}
-        self.turn, self.requests, self.views, self.outputs, self.diary = ((), ()), [], {}, [], []
+        self.turn, self.requests, self.views, self.outputs, self.diary, self.texts = ((), ()), [], {}, [], [], []
 
     @classmethod
     def of(cls, proxy):
@@ -129,7 +129,7 @@ class PlainProxy:
         return (self.settings, self.clock, self.label, houses, self.turn, requests, views, self.leaving)
 
     def event(self, word, *items):
-        self.outputs, self.diary = [], []
+        self.outputs, self.diary, self.texts = [], [], []
         getattr(self, "on_" + word)(*items)
         self.settle()
         return tuple(self.outputs)
@@ -247,6 +247,8 @@ class PlainProxy:
                 continue
             text = view.rest.partition(":")[2][:-1]
             view.rest = ""
+            if now == "whole":
+                self.texts.append(text)
             if now == "wrong" or not self.is_right(name, label, fields(text)):
                 self.drop(name)
                 return

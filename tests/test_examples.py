@@ -11,7 +11,7 @@ class Examples(unittest.TestCase):
         path = Path(__file__).resolve().parent / "examples.txt"
         failed, tried = doctest.testfile(str(path), module_relative=False)
         self.assertEqual(failed, 0)
-        self.assertEqual(tried, 27)
+        self.assertEqual(tried, 38)
 
 
 if __name__ == "__main__":
