@@ -50,10 +50,11 @@ class Judge:
     """What a past has told up to some entry."""
 
     def __init__(self):
-        # Of each request, by its client and number: whether it must not be repeated and its body, and its answer.
+        # By client and number: whether the request must not be repeated and its body; that it was begun; its answer.
         self.accepted = {}
         self.begun = {}
         self.answers = {}
+        # By client: that it has gone.
         self.gone = {}
 
     def fault(self, entry):

@@ -1,17 +1,15 @@
 """A world while a step is done in it: what the events of its proxy lead to."""
 
-from answergate.errors import BadSettings, BadStep
 from answergate.events import gate_after
 from answergate.gates import Gate
 from answergate.houses import house_new, met, took
 from answergate.links import link_new, wrote
-from answergate.proxies import is_settings, new_proxy
+from answergate.proxies import new_proxy
 
 
 def world_new(settings):
-    if not is_settings(settings):
-        raise BadSettings(settings)
-    return (new_proxy(settings), (), tuple([house_new(name) for name, _ in settings[0]]), (), ())
+    proxy = new_proxy(settings)
+    return (proxy, (), tuple([house_new(name) for name, _ in settings[0]]), (), ())
 
 
 def known_fate(proxy, client, number):

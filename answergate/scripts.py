@@ -64,10 +64,8 @@ def read_step(line):
     """The step with this line, or what is surely no possible step."""
     word, _, _ = line.partition(" ")
     kinds = FORMS.get(word, ())
-    # The last item may be a body with blanks.
+    # The last item may be a body with blanks. If items are missing, what is read is no step.
     fields = line.split(" ", len(kinds))
-    if len(fields) != len(kinds) + 1:
-        return None
     items = [read_item(kind, field) for kind, field in zip(kinds, fields[1:])]
     return (fields[0], *items)
 
@@ -97,7 +95,7 @@ def settings_of(lines):
         raise BadScript(1)
     pool = ()
     for at, line in enumerate(lines[1:]):
-        if pool != () and not line.startswith("house "):
+        if not line.startswith("house "):
             break
         pool = (*pool, read_share(line))
         if not is_settings(read_settings(lines[0], pool)):

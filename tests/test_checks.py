@@ -443,7 +443,7 @@ class Twins(Checks, unittest.TestCase):
 
     def test_drawn(self):
         seen = Counter()
-        for settings, steps, names, model in self.drawn(4, 700):
+        for settings, steps, names, model in self.drawn(4, 500):
             self.assert_twins(settings, steps, *names[0])
             seen[steps[-1][0]] += 1
             words = [step[0] for step in steps]
@@ -458,7 +458,7 @@ class Twins(Checks, unittest.TestCase):
         weights = {**PROFILES[5], "request": 3, "tick": 4, "break": 2, "leave": 0.1, "fall": 0.15, "rise": 9, "whole": 0.7, "stop": 0, "restart": 0.2,
                    "draining": 0.02, "begin": 2}
         random, count = Random(5), Counter()
-        for _ in range(250):
+        for _ in range(150):
             stage, model, steps = Stage(random, weights), PlainWorld(settings), []
             for _ in range(110):
                 steps.append(stage.step(model))

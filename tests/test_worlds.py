@@ -200,17 +200,17 @@ class ByHand(Checks, unittest.TestCase):
     def test_a_house_breaks_a_link(self):
         # No steps lead here: what is in flight is no message of the proxy.
         world = self.broken()
-        for flight, written in (("4:lookx", ""), (framed("look", "well"), ""), (framed("ask 3 x"), ""), (framed("past 1 1"), "")):
-            odd = (world[0], ((1, "ann", framed("look", "x")[:-4] + flight if flight == "4:lookx" else flight, "", "open"),), *world[2:])
-            if not is_world(odd):
-                continue
+        for flight in ("ook,", framed("look", "well"), framed("ask 3 x"), framed("past 1 1", "look"), framed("look") + framed("nothing")):
+            odd = (world[0], ((1, "ann", flight, "", "open"),), *world[2:])
+            self.assertIs(is_world(odd), True)
             wanted = PlainWorld.of(odd)
             self.assertTrue(wanted.do(("toward", 1, 99)))
             after = stepped(odd, ("toward", 1, 99))
             self.assertEqual(after, wanted.value())
             self.assertEqual(after[1], ())
             self.assertEqual(after[2][0][4], ((1, "", ("hi",), 1, (), "closed"),))
-            self.assertEqual(after[0][3][0][1], None)
+            self.assertEqual(after[0][3], (((True, 1, 9, 18), None, False, False),))
+            self.assertEqual([view[6] for _, _, view in after[0][6]], ["broken"])
 
     def test_a_refusal_after_an_offence(self):
         # The look at bob is due, and bob is leaving: the break of ann's link opens one to bob, which bob refuses.
@@ -316,8 +316,9 @@ class Possible(Checks, unittest.TestCase):
 
     def test_wrong_house_steps(self):
         world = slow(ask(1), ("back", 1, 99), ("toward", 1, 99))
-        for step in (("begin", "bob", 1), ("begin", "ann", 2), ("begin", "ann", True), ("begin", 1, "ann"), ("answer", "ann", 1, 1), ("answer", "ann", 1, 0),
-                     ("answer", "ann", 2, 1), ("answer", "bob", 1, 1), ("leave", "bob"), ("fall", "bob"), ("rise", "ann"), ("rise", "bob"), ("fall", 1),
+        for step in (("begin", "bob", 1), ("begin", "ann", 2), ("begin", "ann", True), ("begin", 1, "ann"), ("answer", "ann", 1, 1),
+                     ("answer", "ann", 1, 0), ("answer", "ann", 2, 1), ("answer", "bob", 1, 1), ("leave", "bob"), ("fall", "bob"),
+                     ("rise", "ann"), ("rise", "bob"), ("fall", 1),
                      ("rise", ["ann"]), ("leave", ("ann",)), ("break", 2), ("break", True), ("break", "1"), ("break", [1]), ("toward", True, 1),
                      ("toward", [1], 1), ("back", 2, 1), ("toward", 1), ("break",), ("tick", 1), (), ("begin", "ann"), ("fly", "ann"), ("lost", 1),
                      ("received", 1, ""), ("refused", 1), (["tick"],), (None,), ("draining", "bob", True), ("draining", "ann", 1), ("gone", "Ann"),
@@ -431,9 +432,9 @@ class Promises:
 class Forms(Checks, unittest.TestCase):
 
     def samples(self):
-        for _, _, model in drawn(60, 4, PROFILES[1], 40):
+        for _, _, model in drawn(60, 2, PROFILES[1], 30):
             yield model.value()
-        for _, _, model in drawn(61, 3, PROFILES[2], 40):
+        for _, _, model in drawn(61, 1, PROFILES[2], 30):
             yield model.value()
         yield slow(ask(1), ("back", 1, 99), ("toward", 1, 99), ("begin", "ann", 1), ("break", 1), *[TICK] * 9, ("back", 2, 99))
 
@@ -508,8 +509,9 @@ class Forms(Checks, unittest.TestCase):
 
     def test_steps_of_odd_worlds(self):
         """Worlds to which no steps lead go on as the document says, too."""
-        flights = ("", "ook,4:look,", framed("look", "past 0 1", "ask 2 x"), framed("past 1 1"), framed("ask 7 x"), framed("hello 1", "well"), "1:x,1",
-                   framed("past 0 7", "past 0 1"), framed("upto 0 1", "well", "forgot 1", "answer 1 x"), framed("hello 3", "nothing", "well"))
+        flights = ("", "ook,4:look,", framed("look", "past 0 1", "ask 2 x"), framed("past 1 1"), framed("ask 7 x"),
+                   framed("hello 1", "well"), "1:x,1", framed("past 0 7", "past 0 1"),
+                   framed("upto 0 1", "well", "forgot 1", "answer 1 x"), framed("hello 3", "nothing", "well"))
         random = Random(62)
         count = 0
         for _, _, model in drawn(63, 60, size=25):
