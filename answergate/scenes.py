@@ -28,7 +28,8 @@ class Scene:
         self.proxy, links, houses, placed, past = world
         self.links = {link[0]: link for link in links}
         self.houses = {house[0]: house for house in houses}
-        self.placed = list(placed)
+        # For each place, the client and the number of the request that was written there.
+        self.placed = {place: (client, number) for place, client, number in placed}
         self.past = list(past)
         # What the proxy experiences, as [10.3] says it.
         self.hearing = []
@@ -36,14 +37,8 @@ class Scene:
     def value(self):
         """The tuple of the world."""
         links = tuple([self.links[label] for label in sorted(self.links)])
-        return (self.proxy, links, tuple(self.houses.values()), tuple(sorted(self.placed)), tuple(self.past))
-
-    def request_at(self, label, number):
-        """The client and the number of the request with this number on this link, or None if it is not known."""
-        for place, client, own in self.placed:
-            if place == (label, number):
-                return (client, own)
-        return None
+        placed = tuple([(place, client, number) for place, (client, number) in sorted(self.placed.items())])
+        return (self.proxy, links, tuple(self.houses.values()), placed, tuple(self.past))
 
     def happen(self, *event):
         """The proxy has an event, and its outputs take effect."""
@@ -96,9 +91,9 @@ class Scene:
         if message[0] == "ask":
             place = (label, message[1])
             # A request that was just written is still placed where it was written.
-            self.placed.extend([
-                (place, request[0], request[1]) for request in self.proxy[5] if request[7] == place
-            ])
+            for request in self.proxy[5]:
+                if request[7] == place:
+                    self.placed[place] = request[:2]
 
     def house_writes(self, name, label, messages):
         """A house writes messages on one of its rows, which are lost if the link is not open."""

@@ -24,7 +24,7 @@ def is_open(scene, label):
 def is_new(scene, client, number):
     """Whether a request is another one than all so far, and its client has not gone."""
     # The entry of a client that went names no request: its part is shorter.
-    told = [entry[1:3] for entry in scene.past] + [triple[1:] for triple in scene.placed]
+    told = [entry[1:3] for entry in scene.past] + list(scene.placed.values())
     return (client, number) not in told and ("gone", client) not in scene.past
 
 
@@ -62,7 +62,7 @@ def next_due(scene, name, label):
     row = row_of(scene.houses[name], label)
     if row is None or not is_integer(label) or row[3] == len(row[2]):
         return None
-    return scene.request_at(label, row[3] + 1)
+    return scene.placed.get((label, row[3] + 1))
 
 
 def begin(scene, name, label):

@@ -37,6 +37,14 @@ PARTS = NO_STRINGS + ODD_STRINGS + (
 )
 
 
+def nudged(random, value, leaves=(0, 1, 2, 3, 5, 9, "", "a", "ann", "open", "broken", True, False, None, (), (1, 1), (1, 2), (2, 1))):
+    """The value with one drawn leaf replaced."""
+    if not isinstance(value, tuple) or not value:
+        return random.choice(leaves)
+    at = random.randrange(len(value))
+    return value[:at] + (nudged(random, value[at], leaves),) + value[at + 1:]
+
+
 def spoiled(value, parts=PARTS):
     """The value with one part, at any depth, replaced by each of these parts, left out, repeated or exchanged."""
     yield from parts

@@ -98,6 +98,15 @@ class Language(unittest.TestCase):
                     else:
                         self.assertIn(node.module, LIBRARY, path)
 
+    def test_l16_no_circles(self):
+        needs = {path.stem: {node.module.split(".")[-1] for node in ast.walk(tree) if isinstance(node, ast.ImportFrom)}
+                 for path, tree in self.trees.items()}
+        reached = {name: set(others) for name, others in needs.items()}
+        for _ in needs:
+            reached = {name: others.union(*[reached.get(other, ()) for other in others]) for name, others in reached.items()}
+        for name, others in reached.items():
+            self.assertNotIn(name, others)
+
     def test_l3_module_level(self):
         for path, tree in self.trees.items():
             self.assertEqual(list(bad_rows(tree)), [], path)

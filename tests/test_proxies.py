@@ -18,7 +18,7 @@ from tests.checks import Checks
 from tests.driving import CLIENTS, Driver, Ledger, done, some_settings
 from tests.models import framed
 from tests.proxy_model import PlainProxy
-from tests.samples import NO_NUMBERS, NO_STRINGS, NO_WORDS, PARTS, WORDS, spoiled
+from tests.samples import NO_NUMBERS, NO_STRINGS, NO_WORDS, PARTS, WORDS, nudged, spoiled
 
 RULE = (1, 2, 1, 4)
 SETTINGS = ((("ann", 1),), "busy", RULE, 1, 9, 5, 3)
@@ -320,6 +320,35 @@ class Proxies(Checks, unittest.TestCase):
             for request in proxy[5]:
                 self.assertEqual(fate_of(proxy, *request[:2]), PlainProxy.of(proxy).fate(
                     [other for other in PlainProxy.of(proxy).requests if other.value() == request][0]))
+
+    def test_drawn_odd_proxies(self):
+        """Proxies with some parts replaced, to which mostly no events lead, at each kind of event."""
+        random, odd = Random(22), 0
+        for _, rows in drawn(23, 40, {"received": 25, "request": 12, "lost": 4, "odd": 0, "stop": 0}):
+            for _, proxy, _ in rows[::4]:
+                for _ in range(8):
+                    other = nudged(random, proxy)
+                    if is_proxy(other) and other != proxy:
+                        odd, proxy = odd + 1, other
+                model = PlainProxy.of(proxy)
+                for event in self.drawn_events(random, model):
+                    model = PlainProxy.of(proxy)
+                    outputs = model.event(*event)
+                    self.assertEqual(repr(done(proxy, event)), repr((model.value(), outputs)), (proxy, event))
+        self.assertGreater(odd, 200)
+
+    def drawn_events(self, random, model):
+        """Each kind of event once, and several messages on each link."""
+        yield from (TICK, ("restart",), ("stop",), ("gone", "cleo"), ("draining", model.names[0], True), ask(77, client="zoe"))
+        for label in [label for label in model.link.values() if label is not None]:
+            yield ("lost", label)
+            if model.views[label].boot is None:
+                yield ("refused", label)
+            texts = ["hello 1", "hello 2", "well", "answer 1 x", "answer 2 y", "away 0", "away 1", "away 2", "look"]
+            texts += [f"{word} {old}{more}" for old in model.views for word, more in (("upto", " 0"), ("upto", " 1"), ("upto", " 2"), ("forgot", ""))]
+            for _ in range(3):
+                stream = framed(*random.choices(texts, k=random.randint(1, 4)))
+                yield ("received", label, random.choice((stream, stream[:-3])))
 
     def test_each_sentence(self):
         mark = (True, 0, 1, 1)

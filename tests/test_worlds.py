@@ -14,7 +14,7 @@ from answergate.worlds import is_world, new_world, possible_steps, stepped, worl
 from tests.checks import Checks
 from tests.driving import Ledger
 from tests.models import framed
-from tests.samples import NO_STRINGS, PARTS, spoiled
+from tests.samples import NO_STRINGS, PARTS, nudged, spoiled
 from tests.world_model import PROFILES, WORDS, PlainWorld, Stage, world_settings
 
 SETTINGS = ((("ann", 1),), "busy", (1, 2, 1, 4), 1, 9, 5, 3)
@@ -256,6 +256,13 @@ class ByHand(Checks, unittest.TestCase):
         told = (*odd[:3], (((1, 1), "cleo", 1), ((1, 2), "dora", 7)), odd[4])
         self.assertIn(("begin", "ann", 1), possible_steps(told))
         self.assertEqual(stepped(told, ("begin", "ann", 1))[4][-1], ("begun", "dora", 7, "ann", 1))
+
+    def test_placed_tells_the_latest(self):
+        # No steps lead here: placed tells of a request that was not written yet.
+        world = slow(ask(1), ("back", 1, 99))
+        odd = (*world[:3], (((1, 1), "cleo", 1), ((1, 2), "zoe", 5)), world[4])
+        self.assertIs(is_world(odd), True)
+        self.assertEqual(stepped(odd, ask(2))[3], (((1, 1), "cleo", 1), ((1, 2), "cleo", 2)))
 
     def test_leaving_twice(self):
         world = self.broken(("leave", "ann"))
@@ -527,6 +534,22 @@ class Forms(Checks, unittest.TestCase):
                     self.assertEqual(stepped(odd, step), wanted.value(), (odd, step))
                     count += 1
         self.assertGreater(count, 60)
+
+    def test_drawn_odd_worlds(self):
+        """Worlds with some parts replaced, to which mostly no steps lead."""
+        random, odd = Random(64), 0
+        for _, _, model in drawn(65, 120, size=40):
+            world = model.value()
+            for _ in range(20):
+                other = nudged(random, world)
+                if is_world(other) and other != world:
+                    odd, world = odd + 1, other
+            self.assertEqual(possible_steps(world), PlainWorld.of(world).steps())
+            for step in possible_steps(world):
+                wanted = PlainWorld.of(world)
+                self.assertTrue(wanted.do(step))
+                self.assertEqual(repr(stepped(world, step)), repr(wanted.value()), (world, step))
+        self.assertGreater(odd, 100)
 
     def test_due_looks_of_odd_proxies(self):
         world = new_world(TWO)
